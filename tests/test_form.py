@@ -1,0 +1,95 @@
+"""The form of the package: its interface, and the rules of the language that a reader can count."""
+
+import ast
+import builtins
+import importlib
+import inspect
+import pathlib
+import unittest
+
+FOLDER = pathlib.Path(__file__).resolve().parent.parent / "doubtborne"
+LIBRARY = ("heapq", "math", "itertools")
+INTERFACE = {
+    "sets": ("inside(first, second)", "common(first, second)", "maximal_of(sets)", "minimal_of(sets)"),
+    "tables": (
+        "is_table(table)", "is_belief(table, belief)", "may_touch(table, belief, command)",
+        "readings_after(table, belief, command)", "after(table, belief, command, reading)",
+        "ended(goals, belief)", "both_goals(first, second)"),
+    "plans": (
+        "parse_plan(text)", "plan_text(plan)", "doors_of(plan)", "cell_kind(plan, setting, cell)",
+        "mark_of(plan, cell)", "next_cell(plan, cell, direction)"),
+    "doors": ("keeps(rule, setting)", "settings(doors, rules)", "sure_doors(doors, rules)"),
+    "rulesets": ("least_rules(doors, rules, literal)", "least_clash(doors, rules)"),
+    "clauses": ("prime_clauses(doors, cases)", "kept_by(doors, clauses)"),
+    "reached": ("distances(plan, setting, cell)", "passage_terms(plan, cases, cell, aim)"),
+}
+
+
+def sources():
+    """Each file of the package with its text."""
+    return [(path, path.read_text("utf-8")) for path in sorted(FOLDER.glob("*.py"))]
+
+
+class TestInterface(unittest.TestCase):
+
+    def test_functions_are_defined_where_the_interface_lists_them(self):
+        for name, signatures in INTERFACE.items():
+            module = importlib.import_module("doubtborne." + name)
+            for signature in signatures:
+                function = getattr(module, signature.split("(")[0])
+                self.assertEqual(function.__name__ + str(inspect.signature(function)), signature)
+                self.assertEqual(function.__module__, module.__name__)
+
+
+class TestForm(unittest.TestCase):
+
+    def test_the_folder_has_only_python_files(self):
+        for path in FOLDER.iterdir():
+            self.assertTrue(path.suffix == ".py" or path.name == "__pycache__", path)
+
+    def test_sizes_and_characters(self):
+        for path, text in sources():
+            lines = text.split("\n")
+            self.assertLessEqual(len(lines), 400, path)
+            self.assertLessEqual(max(len(line) for line in lines), 120, path)
+            self.assertTrue(all(sign == "\n" or " " <= sign <= "~" for sign in text), path)
+
+    def test_functions_have_at_most_40_lines(self):
+        for path, text in sources():
+            for node in ast.walk(ast.parse(text)):
+                if isinstance(node, ast.FunctionDef):
+                    self.assertLessEqual(node.end_lineno - node.lineno + 1, 40, (path, node.name))
+
+    def test_imports(self):
+        for path, text in sources():
+            for node in ast.walk(ast.parse(text)):
+                self.assertNotIsInstance(node, ast.Import, path)
+                if isinstance(node, ast.ImportFrom):
+                    self.assertEqual(node.level, 0, path)
+                    self.assertTrue(node.module.startswith("doubtborne.") or node.module in LIBRARY, path)
+
+    def test_no_name_of_a_builtin_is_given_another_meaning(self):
+        for path, text in sources():
+            for node in ast.walk(ast.parse(text)):
+                self.assertFalse(set(names_bound_by(node)) & set(dir(builtins)), path)
+
+    def test_strings_have_no_percent_sign(self):
+        for path, text in sources():
+            for node in ast.walk(ast.parse(text)):
+                if isinstance(node, ast.Constant) and isinstance(node.value, str):
+                    self.assertNotIn(chr(37), node.value, path)
+
+
+def names_bound_by(node):
+    """The names that this node of a tree binds."""
+    if isinstance(node, (ast.FunctionDef, ast.ClassDef)):
+        return [node.name]
+    if isinstance(node, ast.arg):
+        return [node.arg]
+    if isinstance(node, ast.Name) and isinstance(node.ctx, ast.Store):
+        return [node.id]
+    return []
+
+
+if __name__ == "__main__":
+    unittest.main()
