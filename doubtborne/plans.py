@@ -8,6 +8,7 @@ MARKS = "abcdefgh"
 GATES = "123456"
 LIDS = "ABCDEF"
 SIGNS = ".,+#*!abcdefgh123456ABCDEF"
+SLICK = ","
 FIXED_KINDS = {"#": "wall", "*": "glass", "!": "hole"}
 # North, east, south, west, as moves over lines and columns.
 MOVES = ((-1, 0), (0, 1), (1, 0), (0, -1))
@@ -78,6 +79,12 @@ def cell_kind(plan, setting, cell):
     if setting[door - 1] == 1:
         return "free" if sign in GATES else "hole"
     return "wall" if sign in GATES else "free"
+
+
+def free_cells(plan, setting):
+    """All cells that are free in the setting, ascending."""
+    cells = range(len(plan) * len(plan[0]))
+    return tuple([cell for cell in cells if cell_kind(plan, setting, cell) == "free"])
 
 
 def mark_of(plan, cell):

@@ -21,6 +21,14 @@ def common(first, second):
     return tuple(sorted(set(first) & set(second)))
 
 
+def subsets_of(members):
+    """All sets that lie inside a set, ascending."""
+    found = [()]
+    for member in members:
+        found = found + [some + (member,) for some in found]
+    return tuple(sorted(found))
+
+
 def maximal_of(sets):
     """The maximal ones of a tuple of sets, ascending."""
     kept = []

@@ -75,3 +75,51 @@ class AnswerCase(unittest.TestCase):
             for name, value in attributes.items():
                 self.assertEqual(getattr(caught.exception, name), value)
                 self.assertTrue(is_plain(getattr(caught.exception, name)))
+
+
+# One plan with every sort of cell, two doors among them, and all settings of these.
+MIXED = ("a.,#.1", ".!..*A", "c,2.B+")
+MIXED_SETTINGS = ((0, 0), (0, 1), (1, 0), (1, 1))
+
+# Lines and columns to go for north, east, south, west.
+COMPASS = ((-1, 0), (0, 1), (1, 0), (0, -1))
+
+
+def sign_beside(plan, setting, cell, direction, steps=1):
+    """The cell so many steps away in the direction, and its kind; a cell outside of the plan is a wall."""
+    width = len(plan[0])
+    line = cell // width + COMPASS[direction][0] * steps
+    column = cell % width + COMPASS[direction][1] * steps
+    if not (0 <= line < len(plan) and 0 <= column < width):
+        return None, "wall"
+    return line * width + column, kind_by_sign(plan[line][column], setting)
+
+
+def kind_by_sign(sign, setting):
+    """What the document says of a character, in a setting."""
+    if sign in "#*!":
+        return {"#": "wall", "*": "glass", "!": "hole"}[sign]
+    if sign in "123456":
+        return "free" if setting[int(sign) - 1] == 1 else "wall"
+    if sign in "ABCDEF":
+        return "hole" if setting["ABCDEF".index(sign)] == 1 else "free"
+    return "free"
+
+
+def free_by_sign(plan, setting):
+    """All cells that are free in the setting, ascending."""
+    return [cell for cell, sign in enumerate("".join(plan)) if kind_by_sign(sign, setting) == "free"]
+
+
+def every_mover(cells):
+    """All movers whose posts have these cells."""
+    choices = subsets(range(len(cells)))[1:]
+    return [("mover", cells, leads) for leads in product(choices, repeat=len(cells))]
+
+
+def runs_of(mover, posts, steps):
+    """All tuples of posts that a mover may go in so many steps, one by one."""
+    runs = [(post,) for post in posts]
+    for _ in range(steps):
+        runs = [run + (new,) for run in runs for new in mover[2][run[-1]]]
+    return runs

@@ -22,6 +22,27 @@ INTERFACE = {
     "rulesets": ("least_rules(doors, rules, literal)", "least_clash(doors, rules)"),
     "clauses": ("prime_clauses(doors, cases)", "kept_by(doors, clauses)"),
     "reached": ("distances(plan, setting, cell)", "passage_terms(plan, cases, cell, aim)"),
+    "sensors": (
+        "sensor_top(sensor)", "ahead(plan, setting, cell, direction)",
+        "sensor_values(plan, setting, sensor, broken, cell, others, bumped)"),
+    "readings": (
+        "readings_at(plan, setting, sensors, broken, cell, others, bumped)",
+        "fits_at(plan, setting, sensors, broken, cell, others, bumped, reading)"),
+    "alike": (
+        "places_that_fit(plan, cases, sensors, reading)", "alike_places(plan, cases, sensors)",
+        "parting_sensors(plan, cases, sensors)"),
+    "walking": ("walked(plan, setting, cell, direction, trail)",),
+    "faults": ("strikes(faults, most, struck)", "broken_by(sensors, faults, struck)"),
+    "commands": (
+        "trails_of(plan, pushes, faults, struck, cell, command)",
+        "ends_of(plan, setting, pushes, faults, struck, cell, command)",
+        "sweeps(plan, setting, pushes, faults, struck, cell, command)",
+        "starts_of(plan, setting, pushes, faults, struck, cell, command)"),
+    "movers": ("may_go(mover, posts)", "posts_after(mover, posts, many)", "round_of(mover, posts)"),
+    "meeting": ("meets(way, old, new)", "first_meeting(mover, posts, cell)", "least_wait(mover, posts, way)"),
+    "tracking": (
+        "tracked(width, mover, posts, sensor, cells, values)",
+        "track(width, mover, posts, sensor, cells, values, post)"),
 }
 
 

@@ -1,7 +1,7 @@
 import unittest
 
 from doubtborne.errors import BadPlan
-from doubtborne.plans import cell_kind, doors_of, mark_of, next_cell, parse_plan, plan_text
+from doubtborne.plans import cell_kind, doors_of, free_cells, mark_of, next_cell, parse_plan, plan_text
 from tests.answers import AnswerCase
 
 SIGNS = ".,+abcdefgh#*!123456ABCDEF"
@@ -131,6 +131,14 @@ class TestCells(AnswerCase):
         kinds = ["free", "free", "wall", "glass", "free", "hole"]
         for cell, kind in enumerate(kinds):
             self.answers(kind, cell_kind, plan, (), cell)
+
+    def test_free_cells(self):
+        self.answers((0, 1, 2), free_cells, ("...",), ())
+        self.answers((0, 4, 5), free_cells, (".#*!", ",a##"), ())
+        self.answers((), free_cells, ("#*", "!#"), ())
+        self.answers((0, 2), free_cells, (".1A",), (0,))
+        self.answers((0, 1), free_cells, (".1A",), (1,))
+        self.answers(tuple(range(64)), free_cells, ("." * 8,) * 8, ())
 
     def test_marks(self):
         for number, sign in enumerate("abcdefgh"):

@@ -1,7 +1,7 @@
 import unittest
 from itertools import combinations
 
-from doubtborne.sets import common, inside, is_ascending, maximal_of, minimal_of
+from doubtborne.sets import common, inside, is_ascending, maximal_of, minimal_of, subsets_of
 from tests.answers import AnswerCase, subsets
 
 SETS = subsets(range(4))
@@ -53,6 +53,19 @@ class TestCommon(AnswerCase):
     def test_numbers_ascend_as_numbers(self):
         many = (0, 8, 9, 10, 64, 100, 1000)
         self.answers(many, common, many, tuple(range(1001)))
+
+
+class TestSubsets(AnswerCase):
+
+    def test_ordinary(self):
+        self.answers(((),), subsets_of, ())
+        self.answers(((), (4,)), subsets_of, (4,))
+        self.answers(((), (1,), (1, 3), (1, 3, 8), (1, 8), (3,), (3, 8), (8,)), subsets_of, (1, 3, 8))
+
+    def test_six_members(self):
+        found = subsets_of((0, 1, 2, 3, 4, 5))
+        self.answers(tuple(sorted(subsets(range(6)))), subsets_of, (0, 1, 2, 3, 4, 5))
+        self.ascends(found)
 
 
 class TestMaximalAndMinimal(AnswerCase):
