@@ -17,7 +17,8 @@ def places_that_fit(plan, cases, sensors, reading):
 
 def _places(plan, cases):
     """A list of all pairs of one of the cases and a cell that is free in it, ascending."""
-    return [(case, cell) for case in cases for cell in free_cells(plan, case)]
+    # The cases are any settings: they can stand in any order, and one of them can stand twice.
+    return [(case, cell) for case in sorted(set(cases)) for cell in free_cells(plan, case)]
 
 
 def _fits(plan, place, sensors, reading):

@@ -1,5 +1,5 @@
 import unittest
-from itertools import combinations, product
+from itertools import combinations, permutations, product
 
 from doubtborne.alike import alike_places, parting_sensors, places_that_fit
 from doubtborne.errors import TooMany
@@ -102,6 +102,36 @@ class TestPlacesThatFit(AnswerCase):
                 place for place in places_of(MIXED, MIXED_SETTINGS)
                 if reading in readings_of(MIXED, place, MANY))
             self.answers(expected, places_that_fit, MIXED, MIXED_SETTINGS, MANY, reading)
+
+
+class TestOrderOfSettings(AnswerCase):
+    """Settings in another order, or handed in twice, give the places that they give in order."""
+
+    def orders(self):
+        settings = ((0, 0), (0, 1), (1, 1))
+        return list(permutations(settings)) + [settings + settings[1:], settings[::-1] + settings[:2]]
+
+    def test_places_that_fit(self):
+        for cases in self.orders():
+            for reading in ((0, 0), (1, 0), (2, 0), (0, 1), (1, 1)):
+                expected = places_that_fit(MIXED, self.orders()[0], (EAST, MARK), reading)
+                self.ascends(expected)
+                self.answers(expected, places_that_fit, MIXED, cases, (EAST, MARK), reading)
+
+    def test_alike_places(self):
+        for cases in self.orders():
+            expected = alike_by_definition(MIXED, self.orders()[0], (EAST, MARK))
+            self.ascends(expected)
+            self.answers(expected, alike_places, MIXED, cases, (EAST, MARK))
+
+    def test_parting_sensors(self):
+        for cases in self.orders():
+            expected = parting_by_definition(("a1.", ".2b"), self.orders()[0], (EAST, WEST, MARK))
+            self.answers(expected, parting_sensors, ("a1.", ".2b"), cases, (EAST, WEST, MARK))
+
+    def test_only_different_places_count(self):
+        self.raises(TooMany, {"limit": 60}, alike_places, SIXTY_ONE, ((), ()), ())
+        self.assertEqual(len(alike_places(SIXTY, ((), ()), ())), 60 * 59 // 2)
 
 
 class TestAlikePlaces(AnswerCase):
