@@ -4,6 +4,7 @@ from doubtborne.plans import SLICK, free_cells, sign_at
 from doubtborne.walking import walked
 
 WAIT = 0
+COMMANDS = 5
 
 
 def trails_of(plan, pushes, faults, struck, cell, command):

@@ -9,6 +9,7 @@ GATES = "123456"
 LIDS = "ABCDEF"
 SIGNS = ".,+#*!abcdefgh123456ABCDEF"
 SLICK = ","
+CHARGER = "+"
 FIXED_KINDS = {"#": "wall", "*": "glass", "!": "hole"}
 # North, east, south, west, as moves over lines and columns.
 MOVES = ((-1, 0), (0, 1), (1, 0), (0, -1))

@@ -1,14 +1,12 @@
 """Readings: what all sensors show together."""
 
 from doubtborne.sensors import sensor_values
+from doubtborne.sets import one_of_each
 
 
 def readings_at(plan, setting, sensors, broken, cell, others, bumped):
     """All readings that may come, ascending; broken has None, "dead" or "wild" for each sensor."""
-    found = [()]
-    for values in values_of_each(plan, setting, sensors, broken, cell, others, bumped):
-        found = [reading + (value,) for reading in found for value in values]
-    return tuple(found)
+    return one_of_each(values_of_each(plan, setting, sensors, broken, cell, others, bumped))
 
 
 def fits_at(plan, setting, sensors, broken, cell, others, bumped, reading):

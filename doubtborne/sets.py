@@ -6,6 +6,11 @@ def is_ascending(items):
     return all([first < second for first, second in zip(items, items[1:])])
 
 
+def is_some_of(members, many):
+    """Whether they are a nonempty set of numbers from 0 on that are less than many."""
+    return len(members) > 0 and is_ascending(members) and all(0 <= member < many for member in members)
+
+
 def inside(first, second):
     """True if the set first lies inside the set second."""
     return len(first) <= len(second) and len(set(first) - set(second)) == 0
@@ -27,6 +32,14 @@ def subsets_of(members):
     for member in members:
         found = found + [some + (member,) for some in found]
     return tuple(sorted(found))
+
+
+def one_of_each(sets):
+    """All tuples with one member of each of the sets, in their order, ascending."""
+    found = [()]
+    for members in sets:
+        found = [chosen + (member,) for chosen in found for member in members]
+    return tuple(found)
 
 
 def maximal_of(sets):

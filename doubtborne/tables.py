@@ -1,6 +1,6 @@
 """Tables of outcomes, beliefs about their worlds, and goals."""
 
-from doubtborne.sets import common, inside_one, is_ascending, maximal_of
+from doubtborne.sets import common, inside_one, is_ascending, is_some_of, maximal_of
 
 TOUCH = (-1, -1)
 MOST_WORLDS = 400
@@ -41,11 +41,7 @@ def _is_pair(pair, worlds):
 
 def is_belief(table, belief):
     """Whether it is a belief of the table."""
-    return (
-        len(belief) > 0
-        and is_ascending(belief)
-        and all(0 <= world < len(table) for world in belief)
-    )
+    return is_some_of(belief, len(table))
 
 
 def may_touch(table, belief, command):

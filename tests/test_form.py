@@ -43,6 +43,19 @@ INTERFACE = {
     "tracking": (
         "tracked(width, mover, posts, sensor, cells, values)",
         "track(width, mover, posts, sensor, cells, values, post)"),
+    "tasks": ("outcome(task, marks)", "rest(task, mark)", "status(task)"),
+    "residuals": (
+        "residuals(task, marks)", "parted(first, second, marks)", "find_alike(first, second, marks)",
+        "judge_alike(first, second, marks, paper)"),
+    "taskparsing": ("parse_task(text)",),
+    "tasktexts": ("task_text(task)",),
+    "books": ("check_book(book)",),
+    "worlds": ("start_worlds(book)", "outcomes(book, world, command)"),
+    "models": ("model_of(book)",),
+    "modelgoals": (
+        "task_goals(model)", "door_goals(model, door)", "cell_goals(model)", "map_goals(model)",
+        "flags(model, fault)"),
+    "modelfacts": ("map_known(model, belief)", "cells_known(model, belief)", "costs_of(book, model)"),
 }
 
 

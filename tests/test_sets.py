@@ -1,10 +1,31 @@
 import unittest
 from itertools import combinations
 
-from doubtborne.sets import common, inside, is_ascending, maximal_of, minimal_of, subsets_of
+from doubtborne.sets import common, inside, is_ascending, is_some_of, maximal_of, minimal_of, one_of_each, subsets_of
 from tests.answers import AnswerCase, subsets
 
 SETS = subsets(range(4))
+
+
+class TestIsSomeOf(AnswerCase):
+
+    def test_right_ones(self):
+        for members in ((0,), (4,), (0, 4), (0, 1, 2, 3, 4)):
+            self.says(True, is_some_of, members, 5)
+
+    def test_wrong_ones(self):
+        for members in ((), (5,), (-1,), (0, 5), (-1, 0), (1, 0), (0, 0), (0, 2, 1)):
+            self.says(False, is_some_of, members, 5)
+        self.says(False, is_some_of, (0,), 0)
+
+
+class TestOneOfEach(AnswerCase):
+
+    def test_ordinary(self):
+        self.answers(((),), one_of_each, ())
+        self.answers(((1,), (3,)), one_of_each, ((1, 3),))
+        self.answers(((0, 1), (0, 2), (5, 1), (5, 2)), one_of_each, ((0, 5), (1, 2)))
+        self.answers((), one_of_each, ((0, 5), ()))
 
 
 class TestInside(AnswerCase):
