@@ -3,6 +3,8 @@
 from doubtborne.sets import common, inside_one, is_ascending, is_some_of, maximal_of
 
 TOUCH = (-1, -1)
+# What the touch pair has in place of a reading.
+NO_READING = -1
 MOST_WORLDS = 400
 MOST_COMMANDS = 6
 GREATEST_READING = 399
@@ -60,6 +62,21 @@ def after(table, belief, command, reading):
     """The belief after the command and the reading; the empty tuple if there is none."""
     outcomes = [pair for world in belief for pair in table[world][command] if pair[0] == reading]
     return tuple(sorted(set([pair[1] for pair in outcomes if pair != TOUCH])))
+
+
+def beliefs_after(table, belief, command):
+    """The beliefs after the command, one for each reading that may come, in the order of these readings."""
+    found = {}
+    for world in belief:
+        for reading, behind in table[world][command]:
+            if reading != NO_READING:
+                found.setdefault(reading, []).append(behind)
+    return tuple([tuple(sorted(set(found[reading]))) for reading in sorted(found)])
+
+
+def is_command(table, command):
+    """Whether it is a command of the table."""
+    return 0 <= command < len(table[0])
 
 
 def ended(goals, belief):

@@ -56,7 +56,29 @@ INTERFACE = {
         "task_goals(model)", "door_goals(model, door)", "cell_goals(model)", "map_goals(model)",
         "flags(model, fault)"),
     "modelfacts": ("map_known(model, belief)", "cells_known(model, belief)", "costs_of(book, model)"),
+    "courses": ("judge_course(book, course)",),
+    "filtering": ("filtered(table, start, history)", "past(table, start, history)"),
+    "witnesses": (
+        "witness(table, start, history, world)", "judge_run(table, start, history, run)",
+        "doubted(table, start, history)"),
+    "filters": ("Filter(table, start)",),
+    "webs": ("web(table, goals, start)", "steps_of(table, goals, start)"),
+    "policies": (
+        "find_policy(table, goals, start)", "judge_policy(table, goals, start, m, policy)",
+        "command_of(policy, belief)"),
+    "refutations": (
+        "find_refutation(table, goals, start, m)", "judge_refutation(table, goals, start, m, refutation)"),
+    "safety": (
+        "safe(table, goals, start)", "find_safe(table, goals, start)", "find_danger(table, goals, start)",
+        "judge_safe(table, goals, start, paper)", "judge_danger(table, goals, start, paper)"),
 }
+# The methods that stand in the body of a class of the interface, as they are called.
+METHODS = {
+    ("filters", "Filter"): (
+        "go_on(command, reading)", "each_belief()", "resume(state)", "trial()", "tried(history)",
+        "along(table, start, history)"),
+}
+PROPERTIES = {("filters", "Filter"): (("present", False), ("gone", False), ("state", True))}
 
 
 def sources():
@@ -73,6 +95,22 @@ class TestInterface(unittest.TestCase):
                 function = getattr(module, signature.split("(")[0])
                 self.assertEqual(function.__name__ + str(inspect.signature(function)), signature)
                 self.assertEqual(function.__module__, module.__name__)
+
+    def test_methods_stand_in_the_body_of_their_class(self):
+        for (name, title), signatures in METHODS.items():
+            made = getattr(importlib.import_module("doubtborne." + name), title)
+            for signature in signatures:
+                method = signature.split("(")[0]
+                self.assertIn(method, vars(made))
+                called = str(inspect.signature(getattr(made, method))).replace("(self, ", "(").replace("(self)", "()")
+                self.assertEqual(method + called, signature)
+
+    def test_properties_stand_in_the_body_of_their_class(self):
+        for (name, title), properties in PROPERTIES.items():
+            made = getattr(importlib.import_module("doubtborne." + name), title)
+            for attribute, is_set in properties:
+                self.assertIsInstance(vars(made)[attribute], property)
+                self.assertEqual(vars(made)[attribute].fset is not None, is_set)
 
 
 class TestForm(unittest.TestCase):

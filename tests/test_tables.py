@@ -1,6 +1,7 @@
 import unittest
 
-from doubtborne.tables import after, both_goals, ended, is_belief, is_table, may_touch, readings_after
+from doubtborne.tables import (
+    after, beliefs_after, both_goals, ended, is_belief, is_command, is_table, may_touch, readings_after)
 from tests.answers import SMALL_TABLE, TOUCH, AnswerCase, subsets
 
 # Three worlds, one command: readings with several worlds, and a touch beside them.
@@ -154,6 +155,34 @@ class TestSteps(AnswerCase):
         table = (tuple([tuple((1, world) for world in range(400))]),) * 400
         self.answers((1,), readings_after, table, tuple(range(400)), 0)
         self.answers(tuple(range(400)), after, table, tuple(range(400)), 0, 1)
+
+
+class TestBeliefsAfter(AnswerCase):
+
+    def test_one_for_each_reading(self):
+        self.answers(((0, 2), (1,)), beliefs_after, FORKED, (0,), 0)
+        self.answers(((0, 1),), beliefs_after, SMALL_TABLE, (0,), 0)
+        self.answers(((0, 1), (1,)), beliefs_after, SMALL_TABLE, (0, 1), 0)
+
+    def test_the_touch_pair_is_left_out(self):
+        self.answers(((1,), (1,)), beliefs_after, FORKED, (1,), 0)
+        self.answers((), beliefs_after, FORKED, (2,), 0)
+
+    def test_they_are_the_beliefs_after_the_readings(self):
+        for table in (SMALL_TABLE, FORKED):
+            for belief in subsets(range(len(table)))[1:]:
+                for command in range(len(table[0])):
+                    expected = tuple(
+                        after(table, belief, command, reading) for reading in readings_after(table, belief, command))
+                    self.answers(expected, beliefs_after, table, belief, command)
+
+
+class TestIsCommand(AnswerCase):
+
+    def test_all(self):
+        for command in (-1, 0, 1, 2, 1000):
+            self.says(command in (0, 1), is_command, SMALL_TABLE, command)
+            self.says(command == 0, is_command, FORKED, command)
 
 
 class TestGoals(AnswerCase):
