@@ -12,7 +12,7 @@ def safe(table, goals, start):
 
 
 def dangers_in(moves):
-    """For each belief of a web that is not safe the number of steps within which it cannot help but touch."""
+    """For each belief of a web that is not safe the number of steps within which a touch cannot be ruled out."""
     return in_rounds(moves, {}, _has_no_clear_move)
 
 

@@ -140,6 +140,6 @@ TOO_LARGE_BOOKS = (
     book(plan=("abcdef..",) + ("........",) * 2 + (".....1##",), task=chain_of_marks(6), cells=(7,)),
     book(plan=MOST_BOOKS[0][1], cells=(0, 6)),
     book(plan=("12345.", "######", "......", "......"), cells=(5, 12, 13, 14, 15, 16, 17, 18, 19, 20, 21, 22, 23)),
-    book(plan=("........",) * 6 + ("..+,.abc", "123456.."), movers=(MOVER,), posts=((0, 1, 2, 3),), cells=tuple(range(64)),
-         task=chain_of_marks(3)),
+    book(plan=("........",) * 6 + ("..+,.abc", "123456.."), movers=(MOVER,), posts=((0, 1, 2, 3),),
+         cells=tuple(range(64)), task=chain_of_marks(3)),
 )
