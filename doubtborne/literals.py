@@ -1,5 +1,7 @@
 """Literals, the settings of some doors, and the terms over them."""
 
+from doubtborne.sets import one_left_out
+
 
 def holds(literal, setting):
     """True if the literal holds in the setting."""
@@ -36,11 +38,6 @@ def shortest_of(found):
     known = {literals: True for literals in found}
     kept = []
     for literals in found:
-        if not any(shorter in known for shorter in _one_left_out(literals)):
+        if not any(shorter in known for shorter in one_left_out(literals)):
             kept.append(literals)
     return tuple(sorted(kept))
-
-
-def _one_left_out(literals):
-    """All that one gets by leaving out one of the literals."""
-    return [literals[:at] + literals[at + 1:] for at in range(len(literals))]

@@ -1,7 +1,7 @@
 """Residuals: what can be left of a task, and whether two tasks are alike."""
 
 from doubtborne.errors import NotAlike
-from doubtborne.searching import search
+from doubtborne.searching import first_ways, search
 from doubtborne.tasks import rest, status
 
 
@@ -12,26 +12,21 @@ def residuals(task, marks):
 
 def parted(first, second, marks):
     """The first one of the shortest tuples behind which two statuses differ, or None; raises TooMany."""
-    found = _pairs_reached(first, second, marks)
-    ways = {(first, second): ()}
-    # Each pair is found first by the first one of the shortest tuples that lead to it.
-    for pair, rests in found.items():
+    ways = _ways_to_pairs(first, second, marks)
+    for pair in ways:
         if not _agree(pair):
             return ways[pair]
-        for mark, behind in zip(marks, rests):
-            ways.setdefault(behind, ways[pair] + (mark,))
     return None
 
 
-def _pairs_reached(first, second, marks):
-    """For each pair of trees that is reached the pairs of their rests, in the order of the marks; raises TooMany."""
-    return search([(first, second)], lambda pair: _look(pair, marks))
+def _ways_to_pairs(first, second, marks):
+    """For each pair of trees that is reached the first one of the shortest tuples that lead to it; raises TooMany."""
+    return first_ways((first, second), lambda pair: _steps_from(pair, marks))
 
 
-def _look(pair, marks):
-    """The pairs of the rests, none if the statuses differ; twice, as told and as reached."""
-    rests = _rests(pair, marks) if _agree(pair) else []
-    return (rests, rests)
+def _steps_from(pair, marks):
+    """The marks with the pairs of the rests behind them, none if the statuses differ."""
+    return list(zip(marks, _rests(pair, marks))) if _agree(pair) else []
 
 
 def _rests(pair, marks):
@@ -46,7 +41,7 @@ def _agree(pair):
 
 def find_alike(first, second, marks):
     """A right paper that the tasks are alike; raises TooMany, then NotAlike."""
-    pairs = tuple(_pairs_reached(first, second, marks))
+    pairs = tuple(_ways_to_pairs(first, second, marks))
     if not all(_agree(pair) for pair in pairs):
         raise NotAlike()
     return pairs

@@ -25,3 +25,24 @@ def search(firsts, look):
                 known.add(other)
                 waiting.append(other)
     return found
+
+
+def first_ways(first, steps_from):
+    """For all that can be reached from the first thing the first one of the shortest tuples of signs to it.
+
+    For a thing, steps_from gives the pairs (sign, thing) to which it leads at once, ascending by the signs. The
+    shorter tuples come ahead of the longer ones, and those of one length ascend; raises TooMany.
+    """
+    found = search([first], lambda thing: _look(steps_from(thing)))
+    ways = {first: ()}
+    # Things are found in the order of their ways, so the first step that leads to a thing ends its way.
+    for thing in found:
+        for sign, other in found[thing]:
+            if other not in ways:
+                ways[other] = ways[thing] + (sign,)
+    return ways
+
+
+def _look(steps):
+    """The steps, and the things to which they lead."""
+    return (steps, [other for sign, other in steps])

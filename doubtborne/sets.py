@@ -34,6 +34,11 @@ def subsets_of(members):
     return tuple(sorted(found))
 
 
+def one_left_out(items):
+    """All that one gets by leaving out one of the items of a tuple."""
+    return [items[:at] + items[at + 1:] for at in range(len(items))]
+
+
 def one_of_each(sets):
     """All tuples with one member of each of the sets, in their order, ascending."""
     found = [()]

@@ -74,6 +74,11 @@ def beliefs_after(table, belief, command):
     return tuple([tuple(sorted(set(found[reading]))) for reading in sorted(found)])
 
 
+def worlds_behind(table, belief, command):
+    """The set of all worlds to which the command may lead from the belief, whatever is read."""
+    return tuple(sorted(set([pair[1] for world in belief for pair in table[world][command] if pair != TOUCH])))
+
+
 def is_command(table, command):
     """Whether it is a command of the table."""
     return 0 <= command < len(table[0])

@@ -14,24 +14,34 @@ def web_moves(table, goals, start):
 
     The moves of a belief are, for each command that may not touch, the pair of it and the beliefs after it.
     """
-    return search([start], lambda belief: _look(table, goals, belief))
+    return search([start], lambda belief: with_others(moves_from(table, goals, belief)))
 
 
-def _look(table, goals, belief):
-    """What is told of a belief of the web, and the beliefs that are reached from it."""
+def moves_from(table, goals, belief):
+    """None if the belief is ended, otherwise its moves."""
     if ended(goals, belief):
-        return (None, [])
-    moves = [
+        return None
+    return [
         (command, beliefs_after(table, belief, command))
         for command in range(len(table[0]))
         if not may_touch(table, belief, command)
     ]
-    return (moves, [other for command, others in moves for other in others])
+
+
+def with_others(moves):
+    """What is told of a belief of a web, its moves or None, and the beliefs that are reached by them."""
+    return (moves, [other for command, others in moves or [] for other in others])
 
 
 def steps_of(table, goals, start):
     """The steps of the start, or None; raises TooMany."""
     return steps_in(web_moves(table, goals, start)).get(start)
+
+
+def borne_within(table, goals, start, steps):
+    """True if the start is borne within so many steps; raises TooMany."""
+    least = steps_of(table, goals, start)
+    return least is not None and least <= steps
 
 
 def steps_in(moves):
@@ -51,7 +61,7 @@ def in_rounds(moves, known, is_due):
     Rounds count from 1. By its moves, and the numbers of the rounds ahead, is_due tells whether a belief is due.
     """
     numbers = {belief: known[belief] for belief in known}
-    waiting = [belief for belief in moves if moves[belief] is not None]
+    waiting = [belief for belief in moves if moves[belief] is not None and belief not in known]
     number = 0
     due = waiting
     while due:

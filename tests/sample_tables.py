@@ -1,5 +1,6 @@
 """Tables to try, and what the document says of their beliefs, as straight as it says it."""
 
+from itertools import combinations
 from random import Random
 
 from tests.answers import SMALL_TABLE, TOUCH, subsets
@@ -159,3 +160,41 @@ def other_beliefs(belief):
     return [
         (), belief[1:], belief[:-1], belief + belief[-1:], belief[::-1], belief + (belief[-1] + 1,), (0,) + belief,
         (-1,) + belief, belief + (1000,), (belief[0] - 1,) + belief[1:]]
+
+
+def chosen_table(worlds):
+    """By the command 0 each of these worlds stays, with a reading for each pair of worlds of which it is one.
+
+    So from all of these worlds each pair, and then each single world, is a belief; by the command 1 all lead to one
+    more world, which stays.
+    """
+    readings = list(enumerate(combinations(range(worlds), 2)))
+    table = [
+        (tuple((reading, world) for reading, pair in readings if world in pair), ((0, worlds),))
+        for world in range(worlds)]
+    return tuple(table) + ((((0, worlds),), ((0, worlds),)),)
+
+
+def made_model(table, start, goal=(), settings=None, readings=None):
+    """What a model with this table looks like; without settings there is no door, and readings have one value."""
+    if settings is None:
+        settings = ((),) * len(table)
+    if readings is None:
+        last = max((shown for row in table for pairs in row for shown, _ in pairs), default=-1)
+        readings = tuple((reading,) for reading in range(last + 1))
+    worlds = tuple((setting, cell, (), (), ("done",)) for cell, setting in enumerate(settings))
+    return ("model", worlds, readings, table, start, goal)
+
+
+def least_borne(table, goals, start):
+    """The steps of the start, or None, in a table with so many beliefs that only its web is looked at."""
+    found = web_by_definition(table, goals, start)
+    steps = {belief: 0 for belief in found if ended_by_definition(goals, belief)}
+    while True:
+        more = [
+            belief for belief in found if belief not in steps and any(
+                all(other in steps for other in others.values()) for others in moves_of(table, belief).values())]
+        if not more:
+            return steps.get(start)
+        number = 1 + max(steps.values())
+        steps.update({belief: number for belief in more})

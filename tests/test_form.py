@@ -71,6 +71,20 @@ INTERFACE = {
     "safety": (
         "safe(table, goals, start)", "find_safe(table, goals, start)", "find_danger(table, goals, start)",
         "judge_safe(table, goals, start, paper)", "judge_danger(table, goals, start, paper)"),
+    "blindness": ("blind(table, goals, start)",),
+    "maximal": (
+        "borne_table(table, goals)", "unborne_table(table, goals)", "safe_table(table, goals)",
+        "whole_policy(table, goals)"),
+    "seeing": ("seen_by(model, kept)", "sensor_sets(model, many, goals, steps)"),
+    "doubtsets": ("door_sets(model, goals, steps, setting)",),
+    "greatest": ("greatest_error(book, number, steps)", "greatest_most(book, steps)"),
+    "tightening": ("tighter(book, other)", "carried(policy, model, second)"),
+    "questions": (
+        "asked(table, start, answers)", "answered_within(table, start, answers)", "unknowable_pairs(table)"),
+    "noticing": (
+        "noticed(table, first, second)", "find_unnoticed(table, first, second)",
+        "judge_unnoticed(table, first, second, paper)"),
+    "worth": ("price_of_doubt(table, goals, start, parts)", "doors_worth_knowing(model, goals)"),
 }
 # The methods that stand in the body of a class of the interface, as they are called.
 METHODS = {

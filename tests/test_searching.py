@@ -1,7 +1,7 @@
 import unittest
 
 from doubtborne.errors import TooMany
-from doubtborne.searching import search
+from doubtborne.searching import first_ways, search
 
 
 def onward(last):
@@ -38,6 +38,26 @@ class TestSearch(unittest.TestCase):
             with self.assertRaises(TooMany) as caught:
                 search(firsts, onward(last))
             self.assertEqual(caught.exception.limit, 400)
+
+
+class TestFirstWays(unittest.TestCase):
+
+    def test_the_shortest_and_of_these_the_first(self):
+        leads = {"a": [(0, "b"), (1, "c"), (3, "d")], "b": [(5, "e"), (6, "a")], "c": [(0, "e"), (1, "d")], "d": [],
+                 "e": [(0, "f")], "f": [(0, "f"), (1, "d")]}
+        found = first_ways("a", lambda thing: leads[thing])
+        self.assertEqual(found, {"a": (), "b": (0,), "c": (1,), "d": (3,), "e": (0, 5), "f": (0, 5, 0)})
+        self.assertEqual(list(found), ["a", "b", "c", "d", "e", "f"])
+        self.assertEqual(first_ways("d", lambda thing: leads[thing]), {"d": ()})
+
+    def test_exactly_400_and_more(self):
+        def onward(last):
+            return lambda number: [("on", number + 1)] if number < last else []
+
+        self.assertEqual(first_ways(1, onward(400))[400], ("on",) * 399)
+        with self.assertRaises(TooMany) as caught:
+            first_ways(1, onward(401))
+        self.assertEqual(caught.exception.limit, 400)
 
 
 if __name__ == "__main__":
