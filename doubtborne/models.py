@@ -10,24 +10,36 @@ from doubtborne.worlds import outcomes, start_worlds
 def model_of(book):
     """The model of the book; raises TooMany."""
     firsts = start_worlds(book)
-    steps = search(firsts, lambda world: _look(book, world))
+    steps = search(firsts, lambda world: with_worlds(outcomes_of_each(book, world)))
+    worlds, readings, table, start = numbered(firsts, steps)
+    goal = tuple([number for number, world in enumerate(worlds) if world[4] == DONE])
+    return ("model", worlds, readings, table, start, goal)
+
+
+def outcomes_of_each(book, world):
+    """The outcomes of the world for each command."""
+    return [outcomes(book, world, command) for command in range(COMMANDS)]
+
+
+def with_worlds(told):
+    """Some outcomes, and all worlds in them."""
+    return (told, [world for touch, pairs in told for reading, world in pairs])
+
+
+def numbered(firsts, steps):
+    """The worlds of which steps has some outcomes, the readings in these, and by their numbers a table and a start.
+
+    Worlds and readings ascend; the start is the set of the firsts.
+    """
     worlds = tuple(sorted(steps))
     readings = _readings_in(steps)
     numbers = {world: number for number, world in enumerate(worlds)}
     reading_numbers = {reading: number for number, reading in enumerate(readings)}
     table = tuple([
-        tuple([_numbered(step, reading_numbers, numbers) for step in steps[world]])
+        tuple([_by_numbers(told, reading_numbers, numbers) for told in steps[world]])
         for world in worlds
     ])
-    start = tuple(sorted([numbers[world] for world in firsts]))
-    goal = tuple([number for number, world in enumerate(worlds) if world[4] == DONE])
-    return ("model", worlds, readings, table, start, goal)
-
-
-def _look(book, world):
-    """The outcomes of the world for each command, and all worlds in them."""
-    steps = [outcomes(book, world, command) for command in range(COMMANDS)]
-    return (steps, [behind for touch, pairs in steps for reading, behind in pairs])
+    return (worlds, readings, table, tuple(sorted([numbers[world] for world in firsts])))
 
 
 def _readings_in(steps):
@@ -36,8 +48,8 @@ def _readings_in(steps):
     return tuple(sorted(set(found)))
 
 
-def _numbered(step, reading_numbers, numbers):
+def _by_numbers(told, reading_numbers, numbers):
     """The outcomes with numbers in place of readings and worlds, the touch pair ahead of them if it may be one."""
-    touch, pairs = step
+    touch, pairs = told
     found = tuple([(reading_numbers[reading], numbers[world]) for reading, world in pairs])
     return (TOUCH,) + found if touch == 1 else found

@@ -10,6 +10,7 @@ LIDS = "ABCDEF"
 SIGNS = ".,+#*!abcdefgh123456ABCDEF"
 SLICK = ","
 CHARGER = "+"
+FLOOR = ".,+abcdefgh"
 FIXED_KINDS = {"#": "wall", "*": "glass", "!": "hole"}
 # North, east, south, west, as moves over lines and columns.
 MOVES = ((-1, 0), (0, 1), (1, 0), (0, -1))
@@ -80,6 +81,11 @@ def cell_kind(plan, setting, cell):
     if setting[door - 1] == 1:
         return "free" if sign in GATES else "hole"
     return "wall" if sign in GATES else "free"
+
+
+def is_floor(plan, cell):
+    """Whether the cell is floor, whatever the doors are."""
+    return sign_at(plan, cell) in FLOOR
 
 
 def free_cells(plan, setting):

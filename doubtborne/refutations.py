@@ -11,21 +11,35 @@ def find_refutation(table, goals, start, m):
     steps = steps_in(moves)
     if start in steps and (m is None or steps[start] <= m):
         raise IsBorne()
+    return refuted_in(moves, steps)
+
+
+def refuted_in(moves, steps):
+    """For all beliefs of a web that are not ended the entries of a refutation, by the steps of those that have some."""
     waiting = [belief for belief in sorted(moves) if moves[belief] is not None]
     return tuple([(belief, steps[belief] - 1 if belief in steps else None) for belief in waiting])
 
 
 def judge_refutation(table, goals, start, m, refutation):
     """Whether the refutation is right for the start and m."""
-    if not all(_is_number(n) and is_not_ended(table, goals, belief) for belief, n in refutation):
+    return are_refuted(table, goals, refutation) and holds_one(_reaching(greatest_of(refutation), m), [start])
+
+
+def are_refuted(table, goals, entries):
+    """Whether the entries have all that is asked of those of a refutation, whatever its start is."""
+    if not all(_is_number(n) and is_not_ended(table, goals, belief) for belief, n in entries):
         return False
+    greatest = greatest_of(entries)
+    return all(_is_refuted(table, greatest, belief, n) for belief, n in entries)
+
+
+def greatest_of(entries):
+    """For each belief the greatest number of its entries, None if it is for ever."""
     greatest = {}
-    for belief, n in refutation:
-        if belief not in greatest or _reaches(n, greatest[belief]):
+    for belief, n in entries:
+        if belief not in greatest or reaches(n, greatest[belief]):
             greatest[belief] = n
-    if not holds_one(_reaching(greatest, m), [start]):
-        return False
-    return all(_is_refuted(table, greatest, belief, n) for belief, n in refutation)
+    return greatest
 
 
 def _is_number(n):
@@ -33,14 +47,14 @@ def _is_number(n):
     return n is None or n >= 0
 
 
-def _reaches(n, asked):
+def reaches(n, asked):
     """True if n steps, for ever if None, are at least as many as asked."""
     return n is None or (asked is not None and n >= asked)
 
 
 def _reaching(greatest, asked):
     """The beliefs whose greatest numbers reach what is asked, as keys."""
-    return {belief: True for belief in greatest if _reaches(greatest[belief], asked)}
+    return {belief: True for belief in greatest if reaches(greatest[belief], asked)}
 
 
 def _is_refuted(table, greatest, belief, n):

@@ -18,10 +18,10 @@ def dangers_in(moves):
 
 def _has_no_clear_move(moves, dangers):
     """True if behind each of the moves there is a danger."""
-    return not any(_keeps_clear(others, dangers) for command, others in moves)
+    return not any(keeps_clear(others, dangers) for command, others in moves)
 
 
-def _keeps_clear(others, dangers):
+def keeps_clear(others, dangers):
     """True if none of the beliefs behind a move is a danger."""
     return not any(other in dangers for other in others)
 
@@ -33,12 +33,12 @@ def find_safe(table, goals, start):
     if start in dangers:
         raise NotSafe()
     waiting = [belief for belief in sorted(moves) if moves[belief] is not None and belief not in dangers]
-    return tuple([(belief, _safe_command(moves[belief], dangers)) for belief in waiting])
+    return tuple([(belief, safe_command(moves[belief], dangers)) for belief in waiting])
 
 
-def _safe_command(moves, dangers):
+def safe_command(moves, dangers):
     """The first command behind which all beliefs are safe."""
-    return [command for command, others in moves if _keeps_clear(others, dangers)][0]
+    return [command for command, others in moves if keeps_clear(others, dangers)][0]
 
 
 def find_danger(table, goals, start):
@@ -46,6 +46,11 @@ def find_danger(table, goals, start):
     dangers = dangers_in(web_moves(table, goals, start))
     if start not in dangers:
         raise IsSafe()
+    return danger_entries(dangers)
+
+
+def danger_entries(dangers):
+    """The entries of a danger paper for all these beliefs."""
     return tuple([(belief, dangers[belief]) for belief in sorted(dangers)])
 
 
@@ -65,14 +70,17 @@ def judge_safe(table, goals, start, paper):
 
 def judge_danger(table, goals, start, paper):
     """Whether the danger paper is right for the start."""
-    if not all(n >= 1 and is_not_ended(table, goals, belief) for belief, n in paper):
+    return are_dangers(table, goals, paper) and holds_one({belief: True for belief, n in paper}, [start])
+
+
+def are_dangers(table, goals, entries):
+    """Whether the entries have all that is asked of those of a danger paper, whatever its start is."""
+    if not all(n >= 1 and is_not_ended(table, goals, belief) for belief, n in entries):
         return False
     least = {}
-    for belief, n in paper:
+    for belief, n in entries:
         least[belief] = min(n, least.get(belief, n))
-    if not holds_one(least, [start]):
-        return False
-    return all(_is_danger(table, least, belief, n) for belief, n in paper)
+    return all(_is_danger(table, least, belief, n) for belief, n in entries)
 
 
 def _is_danger(table, least, belief, n):

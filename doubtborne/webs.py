@@ -46,7 +46,14 @@ def borne_within(table, goals, start, steps):
 
 def steps_in(moves):
     """For each belief of a web that is borne its steps."""
+    return steps_from(moves, {})
+
+
+def steps_from(moves, known):
+    """The known steps of beliefs, and for each other one those that are worked out from them and the ended ones on."""
     ends = {belief: 0 for belief in moves if moves[belief] is None}
+    for belief in known:
+        ends[belief] = known[belief]
     return in_rounds(moves, ends, _has_move_into)
 
 
@@ -58,16 +65,16 @@ def _has_move_into(moves, known):
 def in_rounds(moves, known, is_due):
     """The known numbers of beliefs, and for each other one the number of the round in which it is due, if it ever is.
 
-    Rounds count from 1. By its moves, and the numbers of the rounds ahead, is_due tells whether a belief is due.
+    Rounds count from 1. By its moves, and those with a number of a round ahead, is_due tells whether a belief is due.
     """
     numbers = {belief: known[belief] for belief in known}
     waiting = [belief for belief in moves if moves[belief] is not None and belief not in known]
     number = 0
-    due = waiting
-    while due:
+    # Behind the greatest number there is a round, which may be the first one in which nothing is due.
+    while number <= max(numbers.values(), default=0):
         number += 1
-        due = [belief for belief in waiting if is_due(moves[belief], numbers)]
-        for belief in due:
+        ahead = {belief: True for belief in numbers if numbers[belief] < number}
+        for belief in [one for one in waiting if is_due(moves[one], ahead)]:
             numbers[belief] = number
         waiting = [belief for belief in waiting if belief not in numbers]
     return numbers

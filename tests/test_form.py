@@ -85,14 +85,42 @@ INTERFACE = {
         "noticed(table, first, second)", "find_unnoticed(table, first, second)",
         "judge_unnoticed(table, first, second, paper)"),
     "worth": ("price_of_doubt(table, goals, start, parts)", "doors_worth_knowing(model, goals)"),
+    "twins": (
+        "known_within(table, flags, start)", "find_ring(table, flags, start)",
+        "judge_ring(table, flags, start, ring)"),
+    "charging": (
+        "charged(table, costs, room)", "charged_goals(goals, room)", "with_charge(belief, charge, room)",
+        "lowest(belief, room)"),
+    "leastcharge": ("least_charge(table, goals, costs, room, start)",),
+    "legs": (
+        "judge_leg(table, leg)", "judge_chain(table, goals, start, chain)", "joined(chain)",
+        "cut(goals, start, m, policy, cuts)"),
+    "solving": ("solved(table, goals, start)",),
+    "changing": (
+        "exposed(table, other, goals, start)", "changed_steps(table, other, goals, start)",
+        "updated(triples, table, other, goals, start)"),
+    "walls": ("with_wall(book, cell)",),
+    "verdicts": (
+        "verdict_of(table, goals, belief, n)", "hope(table, goals, belief, n)", "find_loss(table, goals, belief, n)",
+        "judge_loss(table, goals, belief, n, paper)"),
+    "robots": ("Robot(book, time, charge)",),
 }
 # The methods that stand in the body of a class of the interface, as they are called.
 METHODS = {
     ("filters", "Filter"): (
         "go_on(command, reading)", "each_belief()", "resume(state)", "trial()", "tried(history)",
         "along(table, start, history)"),
+    ("robots", "Robot"): (
+        "possible()", "map_now()", "cells_now()", "next_command()", "tell_reading(reading)", "tell_rule(rule)",
+        "tell_cell(cell)", "resume(state)", "trial()", "tried(readings)", "walk_through(readings)",
+        "along(book, time, charge, log)"),
 }
-PROPERTIES = {("filters", "Filter"): (("present", False), ("gone", False), ("state", True))}
+PROPERTIES = {
+    ("filters", "Filter"): (("present", False), ("gone", False), ("state", True)),
+    ("robots", "Robot"): (
+        ("present", False), ("time_left", False), ("verdict", False), ("steps_left", False), ("log", False),
+        ("state", True)),
+}
 
 
 def sources():
@@ -157,7 +185,7 @@ class TestForm(unittest.TestCase):
     def test_no_name_of_a_builtin_is_given_another_meaning(self):
         for path, text in sources():
             for node in ast.walk(ast.parse(text)):
-                self.assertFalse(set(names_bound_by(node)) & set(dir(builtins)), path)
+                self.assertFalse(set(names_bound_by(node)) & (set(dir(builtins)) - {"_"}), path)
 
     def test_strings_have_no_percent_sign(self):
         for path, text in sources():

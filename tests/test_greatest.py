@@ -79,6 +79,8 @@ class TestGreatestError(AnswerCase):
         made = between_glass((("range", 0, 1, 0), ("bump",), east(3)))
         self.answers(None, greatest_error, made, 0, 400)
         self.answers(1, greatest_error, made, 2, 400)
+        made = between_glass((("range", 0, 1, 0), east(0), ("range", 2, 1, 0)))
+        self.assertEqual([greatest_error(made, number, 400) for number in range(3)], [4, 1, 4])
         # Of two sensors that look along the line one is enough.
         made = between_glass((east(1), ("range", 3, 4, 4)))
         self.answers(4, greatest_error, made, 1, 400)

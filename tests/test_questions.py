@@ -196,7 +196,9 @@ class TestUnknowablePairs(AnswerCase):
     def test_by_the_definition(self):
         many = set()
         for table, _ in VARIED:
-            pairs = [pair for pair in combinations(range(len(table)), 2) if answered_within(table, pair, (0, 1)) is None]
+            pairs = [
+                pair for pair in combinations(range(len(table)), 2)
+                if answered_within(table, pair, (0, 1)) is None]
             self.answers(tuple(pairs), unknowable_pairs, table)
             self.ascends(pairs)
             many.add(len(pairs))
